@@ -1,0 +1,1 @@
+"""Relitgoals: how many notes a plan needs for goals about lamps that come again and again."""

@@ -1,0 +1,107 @@
+"""The form of the program: the rules of the language, and where the names of the interface are defined."""
+
+import ast
+import inspect
+import re
+import unittest
+from importlib import import_module
+from pathlib import Path
+
+from tests.form import PACKAGE, file_faults, package_faults
+
+FOLDER = Path(__file__).resolve().parent.parent / PACKAGE
+
+FUNCTIONS = {
+    "lamps": {
+        "is_lamps": "(value)",
+        "is_set": "(value, lamps)",
+        "all_sets": "(lamps)",
+        "union": "(*sets)",
+        "is_within": "(one, other)",
+    },
+    "goals": {"check_sentence": "(lamps, value)", "parts_of": "(sentence)"},
+}
+CLASSES = {
+    "goals": {
+        "Goal": """__init__ lamps sentence __call__ __contains__ sets of_sets __and__ __or__ __invert__ __eq__ __len__
+                   __repr__""".split(),
+    },
+}
+GENERATORS = (("lamps", "all_sets"), ("goals", "parts_of"))
+WRONG_FILES = {
+    "L2": "from os import path\n",
+    "L3": "ROWS = [x for x in (1, 2)]\n",
+    "L4": "def f(x, /):\n    return x\n",
+    "L5": "class C:\n    def __hash__(self):\n        return 1\n",
+    "L6": "def f():\n    global x\n",
+    "L7": "def f(x):\n    return x / 2\n",
+    "L8": "def f(x):\n    return round(x)\n",
+    "L10": "def f(x):\n" + "    x += 1\n" * 40,
+    "L12": "def f(_x):\n    return 1\n",
+    "L14": "NAME = '\u00e9'\n",
+    "L15": "def f(id):\n    return 1\n",
+    "L17": "# the type of a value\n",
+    "L20": "def f(x, y):\n    return x is y\n",
+    "L27": "NAME = '5 %'\n",
+}
+
+
+def texts():
+    return {path.stem: path.read_text(encoding="utf-8") for path in sorted(FOLDER.glob("*.py"))}
+
+
+class LanguageTest(unittest.TestCase):
+    def test_files(self):
+        for path in FOLDER.iterdir():
+            with self.subTest(path.name):
+                self.assertTrue(path.name == "__pycache__" or re.fullmatch(r"__init__\.py|[a-z][a-z0-9_]*\.py", path.name))
+
+    def test_each_file(self):
+        for name, text in texts().items():
+            with self.subTest(name):
+                self.assertEqual(file_faults(text), [])
+
+    def test_all_files_together(self):
+        self.assertEqual(package_faults({name: ast.parse(text) for name, text in texts().items()}), [])
+
+    def test_wrong_files_are_found(self):
+        for rule, text in WRONG_FILES.items():
+            with self.subTest(rule):
+                found = " ".join(fault for line, fault in file_faults(text))
+                self.assertIn(rule, found.split())
+
+
+class InterfaceTest(unittest.TestCase):
+    def test_functions(self):
+        for module, functions in FUNCTIONS.items():
+            for name, signature in functions.items():
+                with self.subTest(name):
+                    found = getattr(import_module(f"{PACKAGE}.{module}"), name)
+                    self.assertEqual(str(inspect.signature(found)), signature)
+                    self.assertEqual(found.__module__, f"{PACKAGE}.{module}")
+
+    def test_methods_stand_in_their_class(self):
+        for module, classes in CLASSES.items():
+            for name, methods in classes.items():
+                found = getattr(import_module(f"{PACKAGE}.{module}"), name)
+                self.assertEqual(found.__module__, f"{PACKAGE}.{module}")
+                for method in methods:
+                    with self.subTest(name, method=method):
+                        self.assertIn(method, vars(found))
+
+    def test_generators(self):
+        for module, name in GENERATORS:
+            with self.subTest(name):
+                self.assertTrue(inspect.isgeneratorfunction(getattr(import_module(f"{PACKAGE}.{module}"), name)))
+
+    def test_goal(self):
+        goal = import_module(f"{PACKAGE}.goals").Goal
+        self.assertEqual(str(inspect.signature(goal)), "(lamps, sentence)")
+        self.assertIsInstance(vars(goal)["of_sets"], staticmethod)
+        self.assertIsInstance(vars(goal)["lamps"], property)
+        self.assertIsInstance(vars(goal)["sentence"], property)
+        self.assertEqual(str(inspect.signature(goal.of_sets)), "(lamps, *sets)")
+
+
+if __name__ == "__main__":
+    unittest.main()

@@ -1,7 +1,7 @@
 """Sentences about sets of lamps, and goals, which say for which sets hand one wins."""
 
 from relitgoals.errors import InvalidSentence, InvalidSet
-from relitgoals.lamps import all_sets, check_lamps, check_same_lamps, is_set
+from relitgoals.lamps import check_lamps, check_same_lamps, is_set, listed_sets
 
 MOST_PARTS = 20
 MOST_COUNT = 4
@@ -15,11 +15,13 @@ def parts_of(sentence):
     """Yields the parts of a sentence, in order."""
     waiting = [sentence]
     while waiting:
-        part = waiting.pop()
-        yield part
-        # The last one that is added is the first one that is taken out again.
-        for inner in reversed(inner_sentences(part)):
-            waiting.append(inner)
+        yield waiting[0]
+        waiting = next_parts(waiting)
+
+
+def next_parts(waiting):
+    """The list of the parts that come behind the first one: the sentences in it, then those that waited already."""
+    return [*inner_sentences(waiting[0]), *waiting[1:]]
 
 
 def inner_sentences(part):
@@ -51,10 +53,15 @@ def has_form(lamps, value):
 def check_sentence(lamps, value):
     """Raises InvalidLamps, or InvalidSentence with the number of the first wrong part of a value."""
     check_lamps(lamps)
-    # The parts come one by one: nothing inside a wrong part, or behind the part with the number 20, is looked at.
-    for number, part in enumerate(parts_of(value)):
-        if number == MOST_PARTS or not has_form(lamps, part):
+    # Not by parts_of: operators make goals, and an operator reaches no function with yield.
+    waiting = [value]
+    number = 0
+    while waiting:
+        # Nothing inside a wrong part, or behind the part with the number 20, is looked at.
+        if number == MOST_PARTS or not has_form(lamps, waiting[0]):
             raise InvalidSentence(number)
+        waiting = next_parts(waiting)
+        number += 1
 
 
 def sentence_holds(sentence, kept):
@@ -74,7 +81,7 @@ def sentence_holds(sentence, kept):
 
 def sets_sentence(lamps, sets):
     """The sentence that lists some sets of some lamps without duplicates, smaller sets first."""
-    listed = [kept for kept in all_sets(lamps) if kept in sets]
+    listed = [kept for kept in listed_sets(lamps) if kept in sets]
     return ("sets", *listed)
 
 
@@ -85,7 +92,7 @@ class Goal:
         check_sentence(lamps, sentence)
         self.letters = lamps
         self.wording = sentence
-        self.held = tuple([kept for kept in all_sets(lamps) if sentence_holds(sentence, kept)])
+        self.held = tuple([kept for kept in listed_sets(lamps) if sentence_holds(sentence, kept)])
 
     @staticmethod
     def of_sets(lamps, *sets):
@@ -129,10 +136,11 @@ class Goal:
 
     def __or__(self, other):
         check_same_lamps(self.letters, other.letters)
-        return Goal(self.letters, sets_sentence(self.letters, self.held + other.held))
+        either = [*self.held, *other.held]
+        return Goal(self.letters, sets_sentence(self.letters, either))
 
     def __invert__(self):
-        others = [kept for kept in all_sets(self.letters) if kept not in self.held]
+        others = [kept for kept in listed_sets(self.letters) if kept not in self.held]
         return Goal(self.letters, sets_sentence(self.letters, others))
 
     def __eq__(self, other):

@@ -38,14 +38,19 @@ def check_same_lamps(one, other):
         raise LampsDiffer()
 
 
+def listed_sets(lamps):
+    """The list of the sets of some lamps, or of those within a set, smaller sets first."""
+    sets = [""]
+    for letter in lamps:
+        sets = [*sets, *[kept + letter for kept in sets]]
+    # Sets of the same length stay in ascending order.
+    return sorted(sorted(sets), key=len)
+
+
 def all_sets(lamps):
     """Yields the sets of some lamps, smaller sets first; raises InvalidLamps."""
     check_lamps(lamps)
-    level = [""]
-    while level:
-        yield from level
-        # Only later letters are added, so that each set comes up once and every level is in ascending order.
-        level = [kept + letter for kept in level for letter in lamps if kept[-1:] < letter]
+    yield from listed_sets(lamps)
 
 
 def union(*sets):

@@ -8,6 +8,7 @@ from importlib import import_module
 from pathlib import Path
 
 from tests.form import PACKAGE, file_faults, package_faults
+from tests.reach import reach_faults
 
 FOLDER = Path(__file__).resolve().parent.parent / PACKAGE
 
@@ -45,9 +46,50 @@ WRONG_FILES = {
     "L27": "NAME = '5 %'\n",
 }
 
+# Each one is the body of a class Box whose sign reaches something that changes something.
+STEPS = "def steps():\n    yield 1\n"
+LISTED = "def listed():\n    return list(steps())\n"
+MADE = "class Made:\n    def __init__(self):\n        self.rows = listed()\n"
+BELOW = "class Below(Made):\n    def __init__(self):\n        super().__init__()\n        self.more = 1\n"
+ABOVE = STEPS + LISTED + MADE + BELOW
+WRONG_REACHES = {
+    "yield in a sign": "    def __add__(self, other):\n        yield 1\n",
+    "a generator": "    def __add__(self, other):\n        return list(steps())\n",
+    "a generator through a function": "    def __and__(self, other):\n        return listed()\n",
+    "a generator through __init__": "    def __invert__(self):\n        return Made()\n",
+    "a generator through the __init__ of a base class": "    def __or__(self, other):\n        return Below()\n",
+    "a generator through a method": "    def told(self):\n        return listed()\n\n"
+                                    "    def __repr__(self):\n        return str(self.told())\n",
+    "a property": "    @property\n    def many(self):\n        return listed()\n",
+    "__len__": "    def __len__(self):\n        return len(listed())\n",
+    "__eq__": "    def __eq__(self, other):\n        return listed() == other\n",
+    "__str__": "    def __str__(self):\n        return str(listed())\n",
+    "__contains__": "    def __contains__(self, x):\n        return x in listed()\n",
+    "a property that is read": "    @property\n    def many(self):\n        return listed()\n\n"
+                               "    def __neg__(self):\n        return self.many\n",
+    "an attribute": "    def __len__(self):\n        self.x = 1\n        return 1\n",
+    "an item": "    def __len__(self):\n        self.x[0] = 1\n        return 1\n",
+    "append": "    def __add__(self, other):\n        self.x.append(other)\n        return self\n",
+    "a call of what was passed": "    def __add__(self, other):\n        return other(1)\n",
+    "in place": "    def __add__(self, other):\n        other += 1\n        return other\n",
+}
+RIGHT_REACHES = {
+    "a method": "    def told(self):\n        return listed()\n",
+    "a call": "    def __call__(self, x):\n        return listed()\n",
+    "__init__": "    def __init__(self):\n        self.x = listed()\n",
+    "a setter": "    @property\n    def many(self):\n        return 1\n\n"
+                "    @many.setter\n    def many(self, value):\n        self.x = listed()\n",
+    "a list of its own": "    def __add__(self, other):\n        rows = [1]\n        rows.append(2)\n        return rows\n",
+    "a number of its own": "    def __add__(self, other):\n        x = 1\n        x += 2\n        return x\n",
+}
+
 
 def texts():
     return {path.stem: path.read_text(encoding="utf-8") for path in sorted(FOLDER.glob("*.py"))}
+
+
+def reaches(body):
+    return reach_faults({"box": ast.parse(ABOVE + "class Box:\n" + body)})
 
 
 class LanguageTest(unittest.TestCase):
@@ -63,6 +105,17 @@ class LanguageTest(unittest.TestCase):
 
     def test_all_files_together(self):
         self.assertEqual(package_faults({name: ast.parse(text) for name, text in texts().items()}), [])
+
+    def test_signs_and_properties_change_nothing(self):
+        self.assertEqual(reach_faults({name: ast.parse(text) for name, text in texts().items()}), [])
+
+    def test_wrong_reaches_are_found(self):
+        for name, body in WRONG_REACHES.items():
+            with self.subTest(name):
+                self.assertNotEqual(reaches(body), [])
+        for name, body in RIGHT_REACHES.items():
+            with self.subTest(name):
+                self.assertEqual(reaches(body), [])
 
     def test_wrong_files_are_found(self):
         for rule, text in WRONG_FILES.items():

@@ -1,6 +1,7 @@
 """Sentences about sets of lamps, and goals, which say for which sets hand one wins."""
 
 from relitgoals.errors import InvalidSentence, InvalidSet
+from relitgoals.kinds import is_number
 from relitgoals.lamps import check_lamps, check_same_lamps, is_set, listed_sets
 
 MOST_PARTS = 20
@@ -31,7 +32,7 @@ def inner_sentences(part):
 
 def is_count(value):
     """Whether a value is a number of lamps that a sentence may ask for."""
-    return isinstance(value, int) and not isinstance(value, bool) and 1 <= value <= MOST_COUNT
+    return is_number(value) and 1 <= value <= MOST_COUNT
 
 
 def has_form(lamps, value):
@@ -55,13 +56,14 @@ def check_sentence(lamps, value):
     check_lamps(lamps)
     # Not by parts_of: operators make goals, and an operator reaches no function with yield.
     waiting = [value]
-    number = 0
-    while waiting:
-        # Nothing inside a wrong part, or behind the part with the number 20, is looked at.
-        if number == MOST_PARTS or not has_form(lamps, waiting[0]):
+    for number in range(MOST_PARTS):
+        # Nothing inside a wrong part is looked at, as it need not be a sentence.
+        if not has_form(lamps, waiting[0]):
             raise InvalidSentence(number)
         waiting = next_parts(waiting)
-        number += 1
+        if len(waiting) == 0:
+            return
+    raise InvalidSentence(MOST_PARTS)
 
 
 def sentence_holds(sentence, kept):
@@ -122,6 +124,10 @@ class Goal:
         if not is_set(kept, self.letters):
             raise InvalidSet(kept)
         return kept in self.held
+
+    def winning_hand(self, kept):
+        """The hand that wins if these are the lamps that are lit without end; raises InvalidSet."""
+        return 1 if self.holds_for(kept) else 2
 
     def __call__(self, kept):
         return self.holds_for(kept)

@@ -89,6 +89,39 @@ def name_faults(tree):
                 yield node.lineno, f"L12 L17 attribute {node.attr}"
 
 
+def binding_faults(tree):
+    """L15: no parameter or local variable has the name of a class or an import of the file."""
+    taken = {alias.asname or alias.name for row in tree.body if isinstance(row, ast.ImportFrom) for alias in row.names}
+    taken.update(row.name for row in tree.body if isinstance(row, ast.ClassDef))
+    for node in ast.walk(tree):
+        if isinstance(node, (ast.Name, ast.arg)):
+            for name in bound_names(node):
+                if name in taken:
+                    yield node.lineno, f"L15 name {name}"
+
+
+def told_faults(tree):
+    """L28: __eq__, __repr__, __str__ and __len__ assign nothing but new lists, and return the right kinds of values."""
+    for node in ast.walk(tree):
+        if isinstance(node, ast.FunctionDef) and node.name in ("__eq__", "__repr__", "__str__", "__len__"):
+            for row in ast.walk(node):
+                if isinstance(row, ast.Assign) and not isinstance(row.value, (ast.List, ast.ListComp)):
+                    yield row.lineno, f"L28 assignment in {node.name}"
+                if isinstance(row, ast.Return) and not returns_rightly(node.name, row.value):
+                    yield row.lineno, f"L28 return of {node.name}"
+            if not isinstance(node.body[-1], ast.Return):
+                yield node.lineno, f"L28 {node.name} does not end with a return"
+
+
+def returns_rightly(name, value):
+    if name == "__eq__":
+        return True
+    called = getattr(value.func, "id", None) or getattr(value.func, "attr", None) if isinstance(value, ast.Call) else None
+    if name == "__len__":
+        return called == "len" or isinstance(value, ast.Constant)
+    return called in ("str", "repr", "join") or isinstance(value, (ast.JoinedStr, ast.Constant))
+
+
 def node_faults(node):
     """What a single node shows: L4, L5, L6, L7, L10, L20."""
     if isinstance(node, ast.stmt) and not isinstance(node, STATEMENTS):
@@ -151,6 +184,7 @@ def file_faults(text):
     """All faults of one file: pairs of a line and what is wrong there."""
     tree = ast.parse(text)
     faults = [*text_faults(text), *name_faults(tree), *module_faults(tree), *decorator_faults(tree)]
+    faults.extend([*binding_faults(tree), *told_faults(tree)])
     for node in ast.walk(tree):
         faults.extend((getattr(node, "lineno", 0), fault) for fault in node_faults(node))
     return sorted(faults)
@@ -163,6 +197,7 @@ def package_faults(trees):
                if isinstance(row, ast.FunctionDef)}
     stored = {node.attr for node in nodes if isinstance(node, ast.Attribute) and isinstance(node.ctx, ast.Store)}
     faults = [f"L18 {name} is a method and an attribute" for name in sorted(methods & stored)]
+    faults.extend(generator_faults(nodes))
     for node in nodes:
         if isinstance(node, ast.Call) and isinstance(node.func, ast.Attribute):
             if node.func.attr not in methods | METHODS:
@@ -172,6 +207,16 @@ def package_faults(trees):
             if isinstance(node, ast.ImportFrom):
                 faults.extend(import_faults(name, node, trees))
     return faults
+
+
+def generator_faults(nodes):
+    """L23: no other function or method has the name of a generator."""
+    functions = [node for node in nodes if isinstance(node, ast.FunctionDef)]
+    names = [function.name for function in functions]
+    for function in functions:
+        if any(isinstance(inner, (ast.Yield, ast.YieldFrom)) for inner in ast.walk(function)):
+            if names.count(function.name) > 1:
+                yield f"L23 {function.name} is the name of a generator and of another function"
 
 
 def names_of(tree):

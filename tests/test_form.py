@@ -21,13 +21,36 @@ FUNCTIONS = {
         "is_within": "(one, other)",
     },
     "goals": {"check_sentence": "(lamps, value)", "parts_of": "(sentence)"},
+    "boards": {"side_by_side": "(*boards)", "ranks": "(board, hand, places)"},
+    "plans": {"plan_table": "(plan)"},
+    "walks": {"breaking_walk": "(plan, goal, place)", "winning_places": "(plan, goal)"},
 }
+# For each class its file, its parameters, its properties and its other methods with their parameters.
 CLASSES = {
-    "goals": {
-        "Goal": """__init__ lamps sentence __call__ __contains__ sets of_sets __and__ __or__ __invert__ __eq__ __len__
-                   __repr__""".split(),
-    },
+    "Goal": ("goals", "(lamps, sentence)", "lamps sentence", {
+        "__call__": "(self, kept)", "__contains__": "(self, kept)", "sets": "(self)", "of_sets": "(lamps, *sets)",
+        "__and__": "(self, other)", "__or__": "(self, other)", "__invert__": "(self)", "__eq__": "(self, other)",
+        "__len__": "(self)", "__repr__": "(self)",
+    }),
+    "Tree": ("trees", "(goal)", "goal", {
+        "parts": "(self, lit)", "branches": "(self)", "height": "(self)", "worth": "(self, hand)", "ways": "(self, hand)",
+        "__len__": "(self)", "__repr__": "(self)",
+    }),
+    "Board": ("boards", "(lamps, owners, arrows)", "lamps places", {
+        "owners": "(self)", "arrows": "(self)", "leaving": "(self, place)", "with_arrow": "(self, arrow)",
+        "without_arrow": "(self, index)", "turned": "(self)", "__add__": "(self, other)", "__eq__": "(self, other)",
+        "__len__": "(self)", "__repr__": "(self)",
+    }),
+    "Plan": ("plans", "(board, hand, firsts, moves, nexts)", "board hand notes", {
+        "firsts": "(self)", "moves": "(self)", "nexts": "(self)", "__eq__": "(self, other)", "__repr__": "(self)",
+    }),
+    "Walk": ("walks", "(board, place, lead, ring)", "board place", {
+        "lead": "(self)", "ring": "(self)", "kept": "(self)", "winner": "(self, goal)", "follows": "(self, plan)",
+        "told": "(self)", "__eq__": "(self, other)", "__len__": "(self)",
+    }),
+    "Drive": ("walks", "(one, two, place)", "one two", {"told": "(self)"}),
 }
+CLASS_VALUES = {"Board": {"PLACES": 12, "ARROWS": 80}, "Plan": {"NOTES": 24}}
 GENERATORS = (("lamps", "all_sets"), ("goals", "parts_of"))
 WRONG_FILES = {
     "L2": "from os import path\n",
@@ -44,7 +67,13 @@ WRONG_FILES = {
     "L17": "# the type of a value\n",
     "L20": "def f(x, y):\n    return x is y\n",
     "L27": "NAME = '5 %'\n",
+    "L28": "class C:\n    def __eq__(self, other):\n        same = self.x == other.x\n        return same\n",
 }
+WRONG_BINDINGS = (
+    "from relitgoals.lamps import union\n\n\ndef f(union):\n    return union\n",
+    "from relitgoals.lamps import union\n\n\ndef f():\n    union = 1\n    return union\n",
+    "class C:\n    pass\n\n\ndef f(xs):\n    return [C for C in xs]\n",
+)
 
 # Each one is the body of a class Box whose sign reaches something that changes something.
 STEPS = "def steps():\n    yield 1\n"
@@ -88,6 +117,10 @@ def texts():
     return {path.stem: path.read_text(encoding="utf-8") for path in sorted(FOLDER.glob("*.py"))}
 
 
+def class_named(name):
+    return getattr(import_module(f"{PACKAGE}.{CLASSES[name][0]}"), name)
+
+
 def reaches(body):
     return reach_faults({"box": ast.parse(ABOVE + "class Box:\n" + body)})
 
@@ -122,6 +155,14 @@ class LanguageTest(unittest.TestCase):
             with self.subTest(rule):
                 found = " ".join(fault for line, fault in file_faults(text))
                 self.assertIn(rule, found.split())
+        for text in WRONG_BINDINGS:
+            with self.subTest(text):
+                self.assertIn("L15", " ".join(fault for line, fault in file_faults(text)))
+
+    def test_two_functions_with_the_name_of_a_generator_are_found(self):
+        texts = {"one": "def steps():\n    yield 1\n", "two": "class C:\n    def steps(self):\n        return 1\n"}
+        trees = {name: ast.parse(text) for name, text in texts.items()}
+        self.assertEqual(package_faults(trees), ["L23 steps is the name of a generator and of another function"])
 
 
 class InterfaceTest(unittest.TestCase):
@@ -133,27 +174,38 @@ class InterfaceTest(unittest.TestCase):
                     self.assertEqual(str(inspect.signature(found)), signature)
                     self.assertEqual(found.__module__, f"{PACKAGE}.{module}")
 
-    def test_methods_stand_in_their_class(self):
-        for module, classes in CLASSES.items():
-            for name, methods in classes.items():
-                found = getattr(import_module(f"{PACKAGE}.{module}"), name)
-                self.assertEqual(found.__module__, f"{PACKAGE}.{module}")
-                for method in methods:
-                    with self.subTest(name, method=method):
-                        self.assertIn(method, vars(found))
+    def test_classes(self):
+        for name, (module, parameters, properties, methods) in CLASSES.items():
+            found = class_named(name)
+            self.assertEqual(found.__module__, f"{PACKAGE}.{module}")
+            self.assertEqual(str(inspect.signature(found)), parameters)
+            for property_name in properties.split():
+                with self.subTest(name, property=property_name):
+                    self.assertIsInstance(vars(found)[property_name], property)
+            for method, signature in methods.items():
+                with self.subTest(name, method=method):
+                    self.assertIn(method, vars(found))
+                    self.assertEqual(str(inspect.signature(getattr(found, method))), signature)
+            self.assertIn("__init__", vars(found))
+
+    def test_base_classes(self):
+        for name in CLASSES:
+            base = class_named("Walk") if name == "Drive" else object
+            self.assertEqual(class_named(name).__bases__, (base,))
+
+    def test_class_values(self):
+        for name, values in CLASS_VALUES.items():
+            for value_name, value in values.items():
+                self.assertEqual(vars(class_named(name))[value_name], value)
 
     def test_generators(self):
         for module, name in GENERATORS:
             with self.subTest(name):
                 self.assertTrue(inspect.isgeneratorfunction(getattr(import_module(f"{PACKAGE}.{module}"), name)))
+        self.assertTrue(inspect.isgeneratorfunction(class_named("Tree").branches))
 
-    def test_goal(self):
-        goal = import_module(f"{PACKAGE}.goals").Goal
-        self.assertEqual(str(inspect.signature(goal)), "(lamps, sentence)")
-        self.assertIsInstance(vars(goal)["of_sets"], staticmethod)
-        self.assertIsInstance(vars(goal)["lamps"], property)
-        self.assertIsInstance(vars(goal)["sentence"], property)
-        self.assertEqual(str(inspect.signature(goal.of_sets)), "(lamps, *sets)")
+    def test_of_sets_is_a_static_method(self):
+        self.assertIsInstance(vars(class_named("Goal"))["of_sets"], staticmethod)
 
 
 if __name__ == "__main__":

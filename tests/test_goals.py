@@ -4,7 +4,7 @@ from random import Random
 
 from relitgoals.errors import InvalidLamps, InvalidSentence, InvalidSet, LampsDiffer
 from relitgoals.goals import Goal
-from tests.helpers import LAMPS, NO_STRINGS, WRONG_STRINGS, row_of_nots, sets_of
+from tests.helpers import LAMPS, NO_STRINGS, WRONG_STRINGS, EqualCase, row_of_nots, sets_of
 
 
 def holds(sentence, kept):
@@ -233,12 +233,7 @@ class CombinedTest(unittest.TestCase):
         self.assertEqual(other.sets(), ["a", "b", "ab"])
 
 
-class EqualTest(unittest.TestCase):
-    def assert_equal(self, one, other, expected):
-        self.assertIs(one == other, expected)
-        self.assertIs(other == one, expected)
-        self.assertIs(one != other, not expected)
-
+class EqualTest(EqualCase):
     def test_same_sets_and_unlike_sentences(self):
         goals = [
             Goal("ab", ("lit", "a")),

@@ -5,21 +5,28 @@ from relitgoals.kinds import check_hand, is_hand, is_index
 from relitgoals.lamps import check_lamps, check_same_lamps, is_set
 
 
+def check_hands(owners, most):
+    """Raises InvalidOwner with the index of the first wrong owner, or of one behind so many; None is no limit."""
+    for index, owner in enumerate(owners):
+        if index == most or not is_hand(owner):
+            raise InvalidOwner(index)
+
+
 def check_owners(owners):
-    """Raises InvalidOwner with the index of the first wrong owner, or with 0 if there is none."""
+    """Raises InvalidOwner with the index of the first wrong owner of a board, or with 0 if there is none."""
     if len(owners) == 0:
         raise InvalidOwner(0)
-    for index, owner in enumerate(owners):
-        if index == Board.PLACES or not is_hand(owner):
-            raise InvalidOwner(index)
+    check_hands(owners, Board.PLACES)
+
+
+def is_between(value, places):
+    """Whether any value is a triple that begins with two of so many places."""
+    return isinstance(value, tuple) and len(value) == 3 and is_index(value[0], places) and is_index(value[1], places)
 
 
 def is_arrow(value, lamps, places):
     """Whether any value is an arrow of a board with some lamps and so many places."""
-    if not isinstance(value, tuple) or len(value) != 3:
-        return False
-    origin, goal, lit = value
-    return is_index(origin, places) and is_index(goal, places) and is_set(lit, lamps)
+    return is_between(value, places) and is_set(value[2], lamps)
 
 
 def check_arrows(arrows, lamps, places):

@@ -82,3 +82,18 @@ class Tree:
 
     def __repr__(self):
         return f"Tree({len(self.rows)} branches)"
+
+
+def way_on(tree, rows, index, depth):
+    """The index of the way, among some rows of ways or branches, to which one of them turns at its set with an index.
+
+    That is the first one that agrees with it up to this set and goes on with the part that comes behind the one here,
+    or with the first part if that one is the last. Nothing changes at the end of a way.
+    """
+    way = rows[index]
+    if depth == len(way) - 1:
+        return index
+    parts = tree.parts(way[depth])
+    following = parts[(parts.index(way[depth + 1]) + 1) % len(parts)]
+    begins = [row[:depth + 2] for row in rows]
+    return begins.index((*way[:depth + 1], following))

@@ -26,6 +26,7 @@ STATEMENTS = (ast.FunctionDef, ast.ClassDef, ast.Return, ast.Delete, ast.Assign,
               ast.While, ast.If, ast.With, ast.Match, ast.Raise, ast.Try, ast.Assert, ast.ImportFrom, ast.Nonlocal,
               ast.Expr, ast.Pass, ast.Break, ast.Continue)
 LIST_TAKERS = ("any", "all", "min", "max", "sum", "sorted")
+AT_ONCE = ("zip", "enumerate", "reversed", "range", "items", "keys", "values")
 
 
 def is_double(name):
@@ -116,7 +117,7 @@ def told_faults(tree):
 def returns_rightly(name, value):
     if name == "__eq__":
         return True
-    called = getattr(value.func, "id", None) or getattr(value.func, "attr", None) if isinstance(value, ast.Call) else None
+    called = called_name(value)
     if name == "__len__":
         return called == "len" or isinstance(value, ast.Constant)
     return called in ("str", "repr", "join") or isinstance(value, (ast.JoinedStr, ast.Constant))
@@ -146,6 +147,25 @@ def node_faults(node):
     if isinstance(node, ast.Call) and isinstance(node.func, ast.Name) and node.func.id in LIST_TAKERS:
         if any(isinstance(value, ast.GeneratorExp) for value in node.args):
             yield "L7 generator expression"
+
+
+def called_name(node):
+    """The name by which a call calls, or None."""
+    if not isinstance(node, ast.Call):
+        return None
+    return getattr(node.func, "id", None) or getattr(node.func, "attr", None)
+
+
+def stored_faults(tree):
+    """L23: what is iterated at once is not assigned, returned or put into a list."""
+    for node in ast.walk(tree):
+        if isinstance(node, (ast.Assign, ast.AnnAssign, ast.Return, ast.keyword)):
+            values = [node.value]
+        else:
+            values = node.elts if isinstance(node, (ast.List, ast.Tuple)) else []
+        for value in values:
+            if called_name(value) in AT_ONCE:
+                yield value.lineno, f"L23 stored {called_name(value)}"
 
 
 def plain_value(node):
@@ -184,7 +204,7 @@ def file_faults(text):
     """All faults of one file: pairs of a line and what is wrong there."""
     tree = ast.parse(text)
     faults = [*text_faults(text), *name_faults(tree), *module_faults(tree), *decorator_faults(tree)]
-    faults.extend([*binding_faults(tree), *told_faults(tree)])
+    faults.extend([*binding_faults(tree), *told_faults(tree), *stored_faults(tree)])
     for node in ast.walk(tree):
         faults.extend((getattr(node, "lineno", 0), fault) for fault in node_faults(node))
     return sorted(faults)
@@ -194,7 +214,7 @@ def package_faults(trees):
     """What the files show together: L16 imports, L18 methods and attributes, L25 methods of builtin values."""
     nodes = [node for tree in trees.values() for node in ast.walk(tree)]
     methods = {row.name for node in nodes if isinstance(node, ast.ClassDef) for row in node.body
-               if isinstance(row, ast.FunctionDef)}
+               if isinstance(row, ast.FunctionDef) and not is_property(row)}
     stored = {node.attr for node in nodes if isinstance(node, ast.Attribute) and isinstance(node.ctx, ast.Store)}
     faults = [f"L18 {name} is a method and an attribute" for name in sorted(methods & stored)]
     faults.extend(generator_faults(nodes))
@@ -207,6 +227,12 @@ def package_faults(trees):
             if isinstance(node, ast.ImportFrom):
                 faults.extend(import_faults(name, node, trees))
     return faults
+
+
+def is_property(method):
+    """Whether a method is a property or its setter; another class may have an attribute of that name."""
+    marks = [getattr(mark, "id", None) or getattr(mark, "attr", None) for mark in method.decorator_list]
+    return "property" in marks or "setter" in marks
 
 
 def generator_faults(nodes):

@@ -7,43 +7,7 @@ from relitgoals.errors import InvalidPlace, LampsDiffer
 from relitgoals.goals import Goal
 from relitgoals.plans import Plan
 from relitgoals.walks import Walk, breaking_walk, winning_places
-from tests.helpers import NO_NUMBERS, any_board, any_plan, goal_of_bits, leaving_of, same_values, sets_of
-
-
-def spread(starts, ahead):
-    """All that is reached from some things by a function that gives the next ones."""
-    found, waiting = set(starts), list(starts)
-    while waiting:
-        new = [thing for thing in ahead(waiting.pop()) if thing not in found]
-        found.update(new)
-        waiting.extend(new)
-    return found
-
-
-def kept_sets(plan, place):
-    """The kept sets of all walks from a place that follow a plan, found by walking round with a bag of lamps."""
-    arrows, moves, nexts = plan.board.arrows(), plan.moves(), plan.nexts()
-
-    def steps(here, note):
-        chosen = moves[note][here]
-        for number in leaving_of(plan.board, here) if chosen is None else [chosen]:
-            yield arrows[number][1], nexts[note][number], frozenset(arrows[number][2])
-
-    def states_ahead(state):
-        return [step[:2] for step in steps(*state)]
-
-    def bags_ahead(bag):
-        return [(here, note, bag[2] | lit) for here, note, lit in steps(*bag[:2])]
-
-    found = set()
-    for state in spread([(place, plan.firsts()[place])], states_ahead):
-        bags = spread(bags_ahead((*state, frozenset())), bags_ahead)
-        found.update(bag[2] for bag in bags if bag[:2] == state)
-    return {"".join(sorted(kept)) for kept in found}
-
-
-def wins(plan, goal, place):
-    return all((kept in goal.sets()) == (plan.hand == 1) for kept in kept_sets(plan, place))
+from tests.helpers import NO_NUMBERS, any_board, any_plan, goal_of_bits, same_values, sets_of, wins
 
 
 class BreakingCase(unittest.TestCase):

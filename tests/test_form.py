@@ -24,6 +24,15 @@ FUNCTIONS = {
     "boards": {"side_by_side": "(*boards)", "ranks": "(board, hand, places)"},
     "plans": {"plan_table": "(plan)"},
     "walks": {"breaking_walk": "(plan, goal, place)", "winning_places": "(plan, goal)"},
+    "solving": {"number_winners": "(owners, arrows)"},
+    "needs": {"test_board": "(goal)", "test_plan": "(goal)", "reply": "(goal, plan)"},
+    "texts": {
+        "sentence_text": "(sentence)",
+        "goal_text": "(goal)",
+        "board_text": "(board)",
+        "read_goal": "(text)",
+        "read_board": "(text)",
+    },
 }
 # For each class its file, its parameters, its properties and its other methods with their parameters.
 CLASSES = {
@@ -49,6 +58,9 @@ CLASSES = {
         "told": "(self)", "__eq__": "(self, other)", "__len__": "(self)",
     }),
     "Drive": ("walks", "(one, two, place)", "one two", {"told": "(self)"}),
+    "Solution": ("solving", "(board, goal)", "board goal", {
+        "lot": "(self, hand)", "plan": "(self, hand)", "winner": "(self, place)", "__repr__": "(self)",
+    }),
 }
 CLASS_VALUES = {"Board": {"PLACES": 12, "ARROWS": 80}, "Plan": {"NOTES": 24}}
 GENERATORS = (("lamps", "all_sets"), ("goals", "parts_of"))
@@ -66,6 +78,7 @@ WRONG_FILES = {
     "L15": "def f(id):\n    return 1\n",
     "L17": "# the type of a value\n",
     "L20": "def f(x, y):\n    return x is y\n",
+    "L23": "def f(x):\n    xs = range(x)\n    return [y for y in xs]\n",
     "L27": "NAME = '5 %'\n",
     "L28": "class C:\n    def __eq__(self, other):\n        same = self.x == other.x\n        return same\n",
 }

@@ -3,6 +3,7 @@
 from relitgoals.errors import InvalidHand
 
 HANDS = (1, 2)
+MOST_BORNE = 99
 
 
 def is_number(value):
@@ -13,6 +14,11 @@ def is_number(value):
 def is_index(value, many):
     """Whether any value is an index of one of so many things."""
     return is_number(value) and 0 <= value < many
+
+
+def is_borne(value):
+    """Whether any value is a number that an arrow or a step may bear, where the greatest number decides."""
+    return is_index(value, MOST_BORNE + 1)
 
 
 def is_row(value, many):

@@ -3,13 +3,11 @@
 from relitgoals.boards import check_exits, check_hands, is_between
 from relitgoals.drafts import drafts_for, plan_of
 from relitgoals.errors import InvalidArrow
-from relitgoals.kinds import HANDS, check_hand, is_index
+from relitgoals.kinds import HANDS, check_hand, is_borne
 from relitgoals.lamps import check_same_lamps
 from relitgoals.nets import exits_of
 from relitgoals.pulls import pulled, without
 from relitgoals.trees import Tree
-
-MOST_NUMBER = 99
 
 
 class Solution:
@@ -55,7 +53,7 @@ class Solution:
 
 def is_numbered_arrow(value, places):
     """Whether any value is an arrow with a number between some of so many places."""
-    return is_between(value, places) and is_index(value[2], MOST_NUMBER + 1)
+    return is_between(value, places) and is_borne(value[2])
 
 
 def number_winners(owners, arrows):

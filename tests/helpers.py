@@ -7,6 +7,7 @@ from random import Random
 from relitgoals.boards import Board
 from relitgoals.goals import Goal
 from relitgoals.plans import Plan
+from relitgoals.tellers import Teller
 
 LAMPS = ("a", "ab", "xz", "abc", "bdy", "abcd", "amyz")
 
@@ -77,6 +78,11 @@ def any_tables(random, board, hand, notes):
 
 def any_plan(random, board, hand, notes):
     return Plan(board, hand, *any_tables(random, board, hand, notes))
+
+
+def any_teller(random, lamps, rooms, most):
+    """Some teller with so many rooms and numbers up to one."""
+    return Teller(lamps, [[(random.randint(0, most), random.randrange(rooms)) for _ in sets_of(lamps)] for _ in range(rooms)])
 
 
 def spread(starts, ahead):

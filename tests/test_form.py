@@ -33,6 +33,8 @@ FUNCTIONS = {
         "read_goal": "(text)",
         "read_board": "(text)",
     },
+    "tellers": {"least_teller": "(goal)", "wrong_row": "(teller, goal)"},
+    "pages": {"write_book": "(book)", "read_book": "(text)"},
 }
 # For each class its file, its parameters, its properties and its other methods with their parameters.
 CLASSES = {
@@ -61,8 +63,21 @@ CLASSES = {
     "Solution": ("solving", "(board, goal)", "board goal", {
         "lot": "(self, hand)", "plan": "(self, hand)", "winner": "(self, place)", "__repr__": "(self)",
     }),
+    "Teller": ("tellers", "(lamps, steps)", "lamps", {
+        "steps": "(self)", "step": "(self, room, lit)", "numbers": "(self)", "tells": "(self, lead, ring)",
+        "__eq__": "(self, other)", "__len__": "(self)", "__repr__": "(self)",
+    }),
+    "Book": ("books", "(*, limit=12)", "limit busy computed", {
+        "set_limit": "(self, value)", "apply": "(self, *commands)", "undo": "(self)", "redo": "(self)", "history": "(self)",
+        "names": "(self, *kinds)", "goal_named": "(self, name)", "board_named": "(self, name)", "text": "(self, name)",
+        "answer": "(self, goal, board)", "kept": "(self)", "twin": "(self)", "__contains__": "(self, name)",
+        "__len__": "(self)", "__eq__": "(self, other)", "__repr__": "(self)",
+    }),
+    "Desk": ("desk", "(*, book=None)", "", {
+        "say": "(self, line)", "__call__": "(self, line)", "book": "(self)", "log": "(self)", "__len__": "(self)",
+    }),
 }
-CLASS_VALUES = {"Board": {"PLACES": 12, "ARROWS": 80}, "Plan": {"NOTES": 24}}
+CLASS_VALUES = {"Board": {"PLACES": 12, "ARROWS": 80}, "Plan": {"NOTES": 24}, "Book": {"MOST": 20}}
 GENERATORS = (("lamps", "all_sets"), ("goals", "parts_of"))
 WRONG_FILES = {
     "L2": "from os import path\n",
@@ -200,6 +215,12 @@ class InterfaceTest(unittest.TestCase):
                     self.assertIn(method, vars(found))
                     self.assertEqual(str(inspect.signature(getattr(found, method))), signature)
             self.assertIn("__init__", vars(found))
+
+    def test_only_the_limit_can_be_assigned(self):
+        for name, (module, parameters, properties, methods) in CLASSES.items():
+            for property_name in properties.split():
+                found = vars(class_named(name))[property_name]
+                self.assertIs(found.fset is None, (name, property_name) != ("Book", "limit"))
 
     def test_base_classes(self):
         for name in CLASSES:

@@ -95,6 +95,11 @@ def changed(things, limit, command):
     return with_thing(things, limit, word, name, more[0])
 
 
+def listed_things(things):
+    """The list of the triples (kind, name, text) of some things, in order."""
+    return [(things[name][0], name, things[name][1]) for name in things]
+
+
 def still_holds(things, pair, solution):
     """Whether an answer for a pair of names is one for some things, too."""
     goal, board = pair
@@ -227,10 +232,6 @@ class Book:
         other.solved = self.solved
         return other
 
-    def listing(self):
-        """The list of the triples (kind, name, text) of all things, in order."""
-        return [(self.things[name][0], name, self.things[name][1]) for name in self.things]
-
     def __contains__(self, name):
         return has_name(self.things, name)
 
@@ -238,7 +239,7 @@ class Book:
         return len(self.things)
 
     def __eq__(self, other):
-        return isinstance(other, Book) and self.listing() == other.listing()
+        return isinstance(other, Book) and listed_things(self.things) == listed_things(other.things)
 
     def __repr__(self):
         return f"Book({len(self.things)} names)"

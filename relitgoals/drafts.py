@@ -6,35 +6,33 @@ from relitgoals.pulls import pulled, without
 
 
 class Draft:
-    """A plan that is being made. It tells notes and moves only where they matter; its starts are the places it wins."""
+    """A plan that is being made, for the places that it wins. It tells notes and moves only where they matter.
+
+    Walks begin with the note 0 everywhere, and where no next note is told, they go on as if they began anew.
+    """
 
     def __init__(self, many):
         self.many = many
-        self.starts = {}
+        self.won = []
         self.choices = {}
         self.changes = {}
 
-    def start_at(self, place):
-        """The first note for a place."""
-        return self.starts.get(place, 0)
+    def note_after(self, note, number):
+        """The note behind an arrow that is taken with a note."""
+        return self.changes.get((note, number), 0)
 
-    def note_after(self, note, arrow):
-        """The note behind an arrow; where nothing is told, the walk begins anew at the place where it arrives."""
-        return self.changes.get((note, arrow[2]), self.start_at(arrow[1]))
-
-    def take_over(self, other):
-        """Adds what a draft tells for other places; the same notes serve at both."""
+    def take_over(self, other, pull):
+        """Adds what a draft tells for other places, and the pull of the hand to them; the same notes serve there."""
+        ahead = choices_of_pull(pull, 0)
         self.many = max(self.many, other.many)
-        self.starts = {**self.starts, **other.starts}
-        self.choices = {**self.choices, **other.choices}
+        self.won = [*self.won, *pull]
+        self.choices = {**self.choices, **other.choices, **ahead}
         self.changes = {**self.changes, **other.changes}
 
-    def take_pull(self, pull):
-        """Adds the places from which the hand can make each walk arrive at those of the draft."""
-        for place, arrow in pull.items():
-            self.starts.setdefault(place, 0)
-            if arrow is not None:
-                self.choices[(0, place)] = arrow[2]
+
+def choices_of_pull(pull, note):
+    """The choices by which a hand goes on in a pull, where walks have a note."""
+    return {(note, place): arrow[2] for place, arrow in pull.items() if arrow is not None}
 
 
 def lit_within(board, arrow, lit):
@@ -56,16 +54,14 @@ def drafts_for(board, tree, arrows, lit):
     while len(phases) < len(parts):
         part = parts[len(phases)]
         pull, inner = phase_for(board, tree, arrows, part)
-        if len(inner[other].starts) == 0:
+        if len(inner[other].won) == 0:
             phases.append((part, pull, inner[hand]))
         else:
             # The other hand keeps each walk within the part, or it comes to places that are lost already.
-            lost.take_over(inner[other])
-            lost.take_pull(pulled(board.owners(), other, inner[other].starts, [], arrows))
-            arrows = without(arrows, lost.starts)
+            lost.take_over(inner[other], pulled(board.owners(), other, inner[other].won, [], arrows))
+            arrows = without(arrows, lost.won)
             phases = []
-    won = draft_in_turn(board, arrows, phases) if phases else draft_of_any(board, hand, arrows)
-    return {hand: won, other: lost}
+    return {hand: draft_in_turn(board, arrows, phases) if phases else draft_of_any(arrows), other: lost}
 
 
 def phase_for(board, tree, arrows, part):
@@ -79,11 +75,16 @@ def phase_for(board, tree, arrows, part):
     return pull, drafts_for(board, tree, without(others, pull), part)
 
 
-def draft_of_any(board, hand, arrows):
+def origins_of(arrows):
+    """The list of the places that some arrows leave."""
+    return sorted({origin for origin, goal, number in arrows})
+
+
+def draft_of_any(arrows):
     """The draft for a hand that wins each walk along some arrows."""
     draft = Draft(1)
-    draft.starts = {origin: 0 for origin, goal, number in arrows}
-    draft.choices = {(0, origin): number for origin, goal, number in arrows if board.owner_of(origin) == hand}
+    draft.won = origins_of(arrows)
+    draft.choices = {(0, origin): number for origin, goal, number in arrows}
     return draft
 
 
@@ -93,16 +94,15 @@ def draft_in_turn(board, arrows, phases):
     So either each part is left again and again, and the hand wins, or one phase lasts, and its own draft wins.
     """
     draft = Draft(sum([inner.many for part, pull, inner in phases]))
-    draft.starts = {origin: phases[0][2].start_at(origin) for origin, goal, number in arrows}
+    draft.won = origins_of(arrows)
     base = 0
-    for at, (part, pull, inner) in enumerate(phases):
+    for part, pull, inner in phases:
         ahead = (base + inner.many) % draft.many
-        following = phases[(at + 1) % len(phases)][2]
         draft.choices = {**draft.choices, **choices_in_phase(pull, inner, base)}
         for arrow in arrows:
             stays = lit_within(board, arrow, part)
             for note in range(inner.many):
-                behind = base + inner.note_after(note, arrow) if stays else ahead + following.start_at(arrow[1])
+                behind = base + inner.note_after(note, arrow[2]) if stays else ahead
                 draft.changes[(base + note, arrow[2])] = behind
         base = base + inner.many
     return draft
@@ -111,20 +111,17 @@ def draft_in_turn(board, arrows, phases):
 def choices_in_phase(pull, inner, base):
     """The choices of a phase whose notes begin with a number: those of the pull, and those of the draft beside it."""
     chosen = {(base + note, place): inner.choices[(note, place)] for note, place in inner.choices}
-    for place, arrow in pull.items():
-        if arrow is not None:
-            # Each walk comes to the pull with the first note of the phase.
-            chosen[(base, place)] = arrow[2]
-    return chosen
+    # Each walk comes to the pull with the first note of the phase.
+    ahead = choices_of_pull(pull, base)
+    return {**chosen, **ahead}
 
 
 def plan_of(board, hand, draft):
     """The plan of a hand for a board that does what a draft tells."""
-    places = list(range(board.places))
-    arrows = [(origin, goal, number) for number, (origin, goal, lit) in enumerate(board.arrows())]
-    moves = [[move_of(board, hand, draft, note, place) for place in places] for note in range(draft.many)]
-    nexts = [[draft.note_after(note, arrow) for arrow in arrows] for note in range(draft.many)]
-    return Plan(board, hand, [draft.start_at(place) for place in places], moves, nexts)
+    notes = list(range(draft.many))
+    moves = [[move_of(board, hand, draft, note, place) for place in range(board.places)] for note in notes]
+    nexts = [[draft.note_after(note, number) for number in range(len(board))] for note in notes]
+    return Plan(board, hand, [0] * board.places, moves, nexts)
 
 
 def move_of(board, hand, draft, note, place):

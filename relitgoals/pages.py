@@ -1,12 +1,12 @@
 """The pages of books, written and read."""
 
-from relitgoals.books import KINDS, Book, book_of, changed
+from relitgoals.books import KINDS, Book, book_of, changed, listed_things
 from relitgoals.errors import GoalError, ParseError
 
 
 def write_book(book):
     """The page of a book."""
-    return "".join([f"{kind} {name} {text}\n" for kind, name, text in book.listing()])
+    return "".join([f"{kind} {name} {text}\n" for kind, name, text in listed_things(book.things)])
 
 
 def read_line(things, index, line):

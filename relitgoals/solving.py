@@ -19,7 +19,7 @@ class Solution:
         drafts = drafts_for(board, Tree(goal), arrows, goal.lamps)
         self.ground = board
         self.aim = goal
-        self.lots = {hand: sorted(list(drafts[hand].starts)) for hand in HANDS}
+        self.lots = {hand: sorted(drafts[hand].won) for hand in HANDS}
         self.plans = {hand: plan_of(board, hand, drafts[hand]) for hand in HANDS}
 
     @property
@@ -71,15 +71,15 @@ def winners_along(hands, arrows):
     """The dict of the winning hands of all places that some arrows leave; each place that one enters is left, too."""
     greatest = max([number for origin, end, number in arrows], default=0)
     hand = 1 if greatest % 2 == 0 else 2
-    found = {}
+    found = {arrow[0]: hand for arrow in arrows}
     lost = lost_beside(hands, hand, arrows, greatest)
     while lost:
         taken = pulled(hands, 3 - hand, lost, [], arrows)
-        found = {**found, **{place: 3 - hand for place in taken}}
+        found.update({place: 3 - hand for place in taken})
         arrows = without(arrows, taken)
         lost = lost_beside(hands, hand, arrows, greatest)
     # From the rest, the hand comes to the greatest number again and again, or wins without it.
-    return {**found, **{arrow[0]: hand for arrow in arrows}}
+    return found
 
 
 def lost_beside(hands, hand, arrows, greatest):

@@ -1,8 +1,9 @@
 import unittest
 from itertools import product
 from random import Random
+from unittest import mock
 
-from relitgoals.books import Book
+from relitgoals.books import Book, changed
 from relitgoals.errors import (CapacityExceeded, DuplicateName, GoalError, InvalidCommand, InvalidLimit, InvalidName,
                                InvalidText, Missing, NothingLeft, UnknownName, WrongKind)
 from relitgoals.texts import read_board, read_goal
@@ -306,6 +307,46 @@ class StepsTest(BookCase):
         for expected in states[1:]:
             book.redo()
             self.assertEqual(book.names(), expected)
+
+
+class BusyTest(BookCase):
+    def seen_busy(self, book, *commands):
+        """What a book says of itself while each of its commands is applied."""
+        seen = []
+
+        def looking(*args):
+            seen.append(book.busy)
+            return changed(*args)
+
+        with mock.patch("relitgoals.books.changed", looking):
+            try:
+                book.apply(*commands)
+            except (GoalError, Missing):
+                pass
+        self.assertIs(book.busy, False)
+        return seen
+
+    def test_busy_while_commands_are_applied(self):
+        book = Book()
+        self.assertEqual(self.seen_busy(book, ("goal", "a", GOAL), ("drop", "a")), [True, True])
+        self.assertEqual(self.seen_busy(book, ("goal", "a", GOAL), ("drop", "b"), ("drop", "a")), [True, True])
+        self.assertEqual(self.seen_busy(book), [])
+        self.assertEqual(self.seen_busy(book, ("goal", "a", GOAL), ["drop", "a"]), [])
+
+    def test_not_busy_behind_other_calls(self):
+        book = filled("a")
+        for call in (book.undo, book.undo, book.redo, book.redo, lambda: book.set_limit(0), lambda: book.answer("a", "a")):
+            try:
+                call()
+            except (GoalError, Missing, NothingLeft):
+                pass
+            self.assertIs(book.busy, False)
+
+    def test_busy_cannot_be_assigned(self):
+        with self.assertRaises(AttributeError):
+            Book().busy = True
+        with self.assertRaises(AttributeError):
+            Book().computed = 3
 
 
 class LimitTest(BookCase):

@@ -96,6 +96,8 @@ class ErrorsTest(TellerCase):
     def test_no_room(self):
         for empty in ([], ()):
             self.assert_raises(InvalidStep, "room", 0, Teller, "ab", empty)
+        for value in (None, True, 0, 1, "", "abcd"):
+            self.assert_raises(InvalidStep, "room", 0, Teller, "ab", value)
 
     def test_forty_rooms(self):
         row = [(1, 0), (2, 39)]
